@@ -1,0 +1,1 @@
+"""Lifts in a house, and how long anybody waits."""
