@@ -38,24 +38,25 @@ class Empty(CourtError):
 
 
 class NoFloor(CourtError):
+    # Here and below, the words don't show the number: Python refuses to write out a very great one.
     def __init__(self, floor):
-        CourtError.__init__(self, f"the house has no floor {floor}")
+        CourtError.__init__(self, "the house has no such floor")
         self.floor = floor
 
 
 class NoLift(CourtError):
     def __init__(self, lift):
-        CourtError.__init__(self, f"the house has no lift {lift}")
+        CourtError.__init__(self, "the house has no such lift")
         self.lift = lift
 
 
 class Twice(CourtError):
     def __init__(self, tag):
-        CourtError.__init__(self, f"the tag {tag} is there already")
+        CourtError.__init__(self, "the tag is there already")
         self.tag = tag
 
 
 class TooMany(CourtError):
     def __init__(self, most):
-        CourtError.__init__(self, f"there are more states than {most}")
+        CourtError.__init__(self, "there are too many states")
         self.most = most

@@ -65,6 +65,11 @@ class Fields(unittest.TestCase):
                 with self.subTest(refusal=refusal.__name__, number=number):
                     self.assertEqual(getattr(refusal(number), field), number)
 
+    def test_a_number_too_great_to_be_written_out(self):
+        for refusal, field in WITH_FIELD:
+            for number in (10 ** 5000, -10 ** 5000):
+                self.assertTrue(getattr(refusal(number), field) == number, refusal.__name__)
+
     def test_the_field_is_there_when_the_error_is_taken(self):
         for refusal, field in WITH_FIELD:
             with self.subTest(refusal=refusal.__name__):
