@@ -1,4 +1,4 @@
-"""The package keeps to the small part of Python that is asked for; the rows L1 to L28 that a walk of its files can see."""
+"""The package keeps to the small part of Python that is asked for; rows L1 to L28 that a walk of its files can see."""
 
 import ast
 import builtins
@@ -161,9 +161,55 @@ def methods_of(tree):
     return {part.name for node in classes for part in node.body if isinstance(part, ast.FunctionDef)}
 
 
-def faults_of(text, methods=frozenset()):
+def values_of(tree):
+    stored = [node for node in ast.walk(tree) if isinstance(node, ast.Attribute) and isinstance(node.ctx, ast.Store)]
+    return {node.attr for node in stored}
+
+
+def classes_of(tree):
+    return {node.name for node in ast.walk(tree) if isinstance(node, ast.ClassDef)}
+
+
+def imports_of(tree):
+    rows = [node for node in ast.walk(tree) if isinstance(node, ast.ImportFrom)]
+    return {alias.name for node in rows for alias in node.names}
+
+
+def faults_of_locals(tree):
+    taken = classes_of(tree) | imports_of(tree)
+    for function in [node for node in ast.walk(tree) if isinstance(node, (ast.FunctionDef, ast.Lambda))]:
+        for node in ast.walk(function):
+            if isinstance(node, (ast.arg, ast.Name)) and set(bound_names(node)) & taken:
+                yield node.lineno, "L15: a local called like a class or an import"
+
+
+def class_places(node):
+    """The nodes right below this one at which the name of a class may stand."""
+    if isinstance(node, ast.Call):
+        tested = node.args[1:] if isinstance(node.func, ast.Name) and node.func.id == "isinstance" else []
+        return [node.func] + [part for thing in tested for part in getattr(thing, "elts", [thing])]
+    if isinstance(node, ast.ClassDef):
+        return node.bases
+    if isinstance(node, ast.ExceptHandler):
+        return getattr(node.type, "elts", [node.type])
+    if isinstance(node, ast.Raise):
+        return [node.exc]
+    if isinstance(node, ast.Attribute) and node.attr == "__init__":
+        return [node.value]
+    return []
+
+
+def faults_of_classes(tree, classes):
+    right = {id(place) for node in ast.walk(tree) for place in class_places(node)}
+    for node in ast.walk(tree):
+        if isinstance(node, ast.Name) and node.id in classes and id(node) not in right:
+            yield node.lineno, "L18: a class that is handed on"
+
+
+def faults_of(text, methods=frozenset(), classes=frozenset()):
     tree = ast.parse(text)
-    found = list(faults_of_rows(text)) + list(faults_of_top(tree))
+    found = list(faults_of_rows(text)) + list(faults_of_top(tree)) + list(faults_of_locals(tree))
+    found += list(faults_of_classes(tree, classes_of(tree) | classes))
     own = methods_of(tree) | methods
     for node in ast.walk(tree):
         told = list(faults_of_expression(node)) + list(faults_of_def(node)) + list(faults_of_name(node, own))
@@ -188,10 +234,18 @@ class ThePackage(unittest.TestCase):
 
     def test_each_file_keeps_to_the_rows(self):
         texts = {path: path.read_text(encoding="utf-8") for path in package_files()}
-        methods = frozenset().union(*[methods_of(ast.parse(text)) for text in texts.values()])
+        trees = [ast.parse(text) for text in texts.values()]
+        methods = set().union(*[methods_of(tree) for tree in trees])
+        classes = set().union(*[classes_of(tree) for tree in trees])
         for path, text in texts.items():
             with self.subTest(file=path.name):
-                self.assertEqual(faults_of(text, methods), [])
+                self.assertEqual(faults_of(text, methods, classes), [])
+
+    def test_no_name_is_a_method_and_a_value(self):
+        trees = [ast.parse(path.read_text(encoding="utf-8")) for path in package_files()]
+        methods = set().union(*[methods_of(tree) for tree in trees])
+        values = set().union(*[values_of(tree) for tree in trees])
+        self.assertEqual(methods & values, set(), "L18")
 
     def test_no_two_files_draw_from_one_another(self):
         draws = {}
@@ -216,7 +270,11 @@ class TheWalk(unittest.TestCase):
             ("L8", "def told(x):\n    return hash(x)\n"), ("L10", "WORDS = '" + "a" * 120 + "'\n"),
             ("L10", "def told(x):\n" + "    x += 1\n" * 40), ("L12", "def told(_):\n    return 1\n"),
             ("L14", "# \u00e4\n"), ("L15", "ONE = 1\nONE = 2\n"), ("L15", "def told(max):\n    return max\n"),
+            ("L15", "from liftcourt.masks import bit\n\n\ndef told(bit):\n    return bit\n"),
+            ("L15", "class Door:\n    pass\n\n\ndef told(x):\n    return [Door for Door in x]\n"),
             ("L17", "# a type\n"), ("L17", "def compile(x):\n    return x\n"),
+            ("L18", "class Door:\n    pass\n\n\ndef told():\n    return Door\n"),
+            ("L18", "class Door:\n    pass\n\n\ndef told(x):\n    return Door.left(x)\n"),
             ("L20", "def told(x, y):\n    return x is y\n"), ("L25", "def told(x):\n    return x.sort()\n"),
             ("L27", "def told(k):\n    return 2 ** k\n"), ("L27", "SIGN = '" + chr(37) + "'\n"),
         ]
@@ -226,6 +284,8 @@ class TheWalk(unittest.TestCase):
 
     def test_plain_code_has_no_fault(self):
         self.assertEqual(faults_of('"""Words."""\n\nONE = 1\n\n\ndef told(x):\n    return x + ONE\n'), [])
+        self.assertEqual(faults_of("class Door:\n    pass\n\n\ndef told(x):\n    return isinstance(x, Door)\n"), [])
+        self.assertEqual(faults_of("class Door:\n    pass\n\n\nclass Slow(Door):\n    pass\n"), [])
 
 
 if __name__ == "__main__":
