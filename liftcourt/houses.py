@@ -41,6 +41,18 @@ def made_house(floors, lifts, locked, sort):
     return (floors, tuple(lifts), locked, sort)
 
 
+def room_of(house, lift):
+    return house[1][lift][1]
+
+
+def turns_of(house, lift):
+    return house[1][lift][2]
+
+
+def kind_of(house, lift):
+    return house[1][lift][3]
+
+
 def shown_house(house):
     words = [str(house[0]), house[3]] + [str(floor) for floor in listed(house[2])]
     lifts = [f"{start} {room} {turns} {kind}" for start, room, turns, kind in house[1]]

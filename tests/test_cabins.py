@@ -5,6 +5,7 @@ import unittest
 
 from liftcourt.cabins import cabin_of, exchanged, steered, view
 from liftcourt.houses import made_house
+from restated import expected_exchange, expected_steered, expected_view
 
 SORTS = ("free", "way")
 LIGHTS = (-1, 0, 1)
@@ -18,19 +19,6 @@ def cabin(floor, light=0, aboard=(), door=0, marks=0):
 
 def waiting(*rides):
     return [(10 + k, start, goal, 0) for k, (start, goal) in enumerate(rides)]
-
-
-def expected_view(sort, room, told, riders):
-    place, light, door, marks, aboard = told
-    floor = place // 2
-    goals = {goal for tag, goal in aboard}
-    tasks = goals | ({rider[1] for rider in riders} if len(aboard) < room else set())
-    stops = sort == "free" or floor in goals or not light
-    stops = stops or any(r[1] == floor and (r[2] > r[1]) == (light == 1) for r in riders)
-    here = (2 if stops else 1) if floor in tasks else 0
-    ups = [task - floor for task in tasks if task > floor]
-    downs = [floor - task for task in tasks if task < floor]
-    return (floor, light, here, min(ups, default=0), min(downs, default=0))
 
 
 class Case(unittest.TestCase):
@@ -176,22 +164,6 @@ class View(Case):
         self.assertSeen("free", 2, cabin(7, 1, [(HUGE + 1, 0)]), riders, (7, 1, 2, 0, 1))
 
 
-def expected_steered(sort, floors, turns, told, word):
-    place, light, door, marks, aboard = told
-    goals = [goal for tag, goal in aboard]
-    if sort == "way" and place // 2 in goals:
-        word = "o"
-    elif sort == "way" and goals:
-        word = {("x", 1): "o", ("x", 0): "o", ("x", -1): "o", ("u", -1): "s", ("d", 1): "s"}.get((word, light), word)
-    if (word, place) in (("u", 2 * floors - 2), ("d", 0)):
-        word = "s"
-    change = {
-        "o": (place, light, turns), "x": (place, 0, turns), "u": (place + 1, 1, 0), "d": (place - 1, -1, 0),
-        "s": (place, light if goals else 0, 0),
-    }[word]
-    return change + (marks, aboard)
-
-
 class Steered(Case):
     def assertDone(self, sort, floors, turns, told, word, expected):
         done = steered(sort, floors, turns, told, word)
@@ -278,21 +250,6 @@ class Steered(Case):
             told = cabin(floor, light, [(HUGE - k, goal) for k, goal in enumerate(goals)], 0, marks)
             for sort, turns, word in itertools.product(SORTS, (1, 4), WORDS):
                 self.assertDone(sort, 4, turns, told, word, expected_steered(sort, 4, turns, told, word))
-
-
-def expected_exchange(sort, room, told, riders):
-    place, light, door, marks, aboard = told
-    outs = [pair for pair in aboard if 2 * pair[1] == place]
-    stay = [pair for pair in aboard if pair not in outs]
-    ins = []
-    for tag, start, goal, lift in riders:
-        way = 1 if goal > start else -1
-        if 2 * start == place and len(stay) + len(ins) < room and (sort == "free" or light in (0, way)):
-            ins.append((tag, goal))
-            if sort == "way":
-                light = way
-    behind = (place, light, door, marks, tuple(stay + ins))
-    return (behind, [tag for tag, goal in outs], [tag for tag, goal in ins])
 
 
 class Exchanged(Case):
