@@ -129,6 +129,38 @@ def faults_of_expression(node):
         yield "L7: an f-string with more than a name"
 
 
+WALKS = ("zip", "enumerate", "reversed", "range")
+WALKED_BY = ("list", "tuple", "dict", "sorted", "sum", "any", "all", "enumerate", "zip")
+
+
+def is_walk(node):
+    if not isinstance(node, ast.Call):
+        return False
+    if isinstance(node.func, ast.Name):
+        return node.func.id in WALKS
+    return isinstance(node.func, ast.Attribute) and node.func.attr in ("items", "keys", "values")
+
+
+def walk_places(node):
+    """The nodes right below this one at which a walk may stand."""
+    if isinstance(node, (ast.For, ast.comprehension)):
+        return [node.iter]
+    if isinstance(node, ast.Call) and isinstance(node.func, ast.Name):
+        if node.func.id in WALKED_BY:
+            return node.args if node.func.id == "zip" else node.args[:1]
+        return node.args if node.func.id in ("min", "max") and len(node.args) == 1 else []
+    if isinstance(node, ast.Call) and isinstance(node.func, ast.Attribute) and node.func.attr == "join":
+        return node.args if isinstance(node.func.value, ast.Constant) else []
+    return []
+
+
+def faults_of_walks(tree):
+    right = {id(place) for node in ast.walk(tree) for place in walk_places(node)}
+    for node in ast.walk(tree):
+        if is_walk(node) and id(node) not in right:
+            yield node.lineno, "L23: a walk that is kept"
+
+
 def bound_names(node):
     if isinstance(node, ast.Name) and isinstance(node.ctx, ast.Store):
         return [node.id]
@@ -209,7 +241,7 @@ def faults_of_classes(tree, classes):
 def faults_of(text, methods=frozenset(), classes=frozenset()):
     tree = ast.parse(text)
     found = list(faults_of_rows(text)) + list(faults_of_top(tree)) + list(faults_of_locals(tree))
-    found += list(faults_of_classes(tree, classes_of(tree) | classes))
+    found += list(faults_of_classes(tree, classes_of(tree) | classes)) + list(faults_of_walks(tree))
     own = methods_of(tree) | methods
     for node in ast.walk(tree):
         told = list(faults_of_expression(node)) + list(faults_of_def(node)) + list(faults_of_name(node, own))
@@ -276,6 +308,8 @@ class TheWalk(unittest.TestCase):
             ("L18", "class Door:\n    pass\n\n\ndef told():\n    return Door\n"),
             ("L18", "class Door:\n    pass\n\n\ndef told(x):\n    return Door.left(x)\n"),
             ("L20", "def told(x, y):\n    return x is y\n"), ("L25", "def told(x):\n    return x.sort()\n"),
+            ("L23", "def told(xs):\n    return [x for x in reversed(range(xs))]\n"),
+            ("L23", "def told(xs):\n    return xs.items()\n"), ("L23", "def told(xs):\n    ys = range(xs)\n"),
             ("L27", "def told(k):\n    return 2 ** k\n"), ("L27", "SIGN = '" + chr(37) + "'\n"),
         ]
         for rule, text in samples:
@@ -286,6 +320,7 @@ class TheWalk(unittest.TestCase):
         self.assertEqual(faults_of('"""Words."""\n\nONE = 1\n\n\ndef told(x):\n    return x + ONE\n'), [])
         self.assertEqual(faults_of("class Door:\n    pass\n\n\ndef told(x):\n    return isinstance(x, Door)\n"), [])
         self.assertEqual(faults_of("class Door:\n    pass\n\n\nclass Slow(Door):\n    pass\n"), [])
+        self.assertEqual(faults_of("def told(xs):\n    return list(reversed(xs)) + [x for x in range(xs)]\n"), [])
 
 
 if __name__ == "__main__":
